@@ -1,0 +1,1 @@
+"""Borderflow: unlike machines side by side on one row of cells."""
