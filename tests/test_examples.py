@@ -1,0 +1,47 @@
+"""The examples at the end of the document."""
+
+import unittest
+
+from borderflow.errors import Loses
+from borderflow.halves import halves
+from borderflow.machines import Machine
+from borderflow.meeting import meeting_rings
+from borderflow.ratios import Ratio
+from borderflow.rows import Row
+from borderflow.rules import Rule, sum_rule
+from tests.cases import CARRY, FLIP, Case
+
+
+class Stage1(Case):
+    def test_ratios(self):
+        self.assertEqual(str(Ratio(2, 6) * Ratio(1, 2) ** -1), "2/3")
+
+    def test_rows(self):
+        row = Row((0, 0), (0, 1, 0), (0,), start=-1)
+        self.assertEqual(repr(row >> 2), "Row((0,), (1,), (0,), start=2)")
+
+
+class Stage2(Case):
+    def test_meeting_rings(self):
+        self.assertEqual(meeting_rings(sum_rule(2, -1, 1)), ((0, 0, 0), (0, 1, 1)))
+
+    def test_loses(self):
+        self.fails(Loses, ((0,), (1,)), Machine, sum_rule(2, 0, 1))
+
+    def test_carry(self):
+        carry = Machine(Rule(4, -1, 0, CARRY))
+        told = [carry.reach, carry.left, carry.right, str(carry.flow), carry.back.low, carry.back.high]
+        self.assertEqual(told, [1, 2, 8, "2", 0, 1])
+
+    def test_halves(self):
+        flip = Machine(Rule(2, -1, 2, FLIP))
+        told = [(0, 0, 1, 0), (0, 1, 1, 0), (1, 0, 1, 0), (1, 1, 1, 0)]
+        self.assertEqual(halves(flip, (1, 0, 0, 0), side="right"), told)
+
+    def test_rings(self):
+        flip = Machine(Rule(2, -1, 2, FLIP))
+        self.assertEqual(flip.ring_step((0, 0, 1, 0, 1, 1, 0, 0, 1, 0)), (0, 1, 1, 0, 0, 1, 0, 1, 1, 0))
+
+
+if __name__ == "__main__":
+    unittest.main()
