@@ -101,6 +101,22 @@ class Machines(MachineCase):
         self.assertEqual(caught.exception.what, "table")
         self.assertGreater(caught.exception.count, 4096)
 
+    def test_a_back_with_as_many_words_as_may_be(self):
+        # three cells with 16 signs are not too many for the back, but they are too far for the halves
+        rule = chain(3) * same_rule(2)
+        self.fails(TooMany, ("halves", 16 ** 4), Machine, rule)
+        self.fails(TooMany, ("halves", 16 ** 4), Machine, mirrored(rule))
+        # moved by seven, the rule looks at -7 to -6, and the back at 7 to 9
+        self.fails(TooMany, ("halves", 16 ** 18), Machine, rule >> 7)
+
+    def test_reach_comes_from_each_end_of_each_window(self):
+        far = back_of_chain(3)
+        self.assertEqual((far.low, far.high, chain(3).low, chain(3).high), (0, 2, 0, 1))
+        for rule in (far, mirrored(far), chain(3), mirrored(chain(3))):
+            self.fails(TooMany, ("halves", 8 ** 4), Machine, rule)
+        self.fails(TooMany, ("halves", 8 ** 4), known_machine, mirrored(far), mirrored(chain(3)))
+        self.fails(TooMany, ("halves", 8 ** 4), known_machine, mirrored(chain(3)), mirrored(far))
+
     def test_limit_of_halves(self):
         self.fails(TooMany, ("halves", 8 ** 4), Machine, chain(3))
         self.assertEqual(Machine(move_rule(2, 4)).reach, 4)

@@ -64,6 +64,14 @@ class Ratios(Case):
         self.assertEqual(Ratio(1).power(prime=2), 0)
         self.assertEqual((Ratio(2) ** 99 * Ratio(2) ** 99).power(2), 198)
 
+    def test_all_primes_up_to_61(self):
+        for number in range(-1, 70):
+            if 2 <= number <= 61 and all(number % part for part in range(2, number)):
+                self.assertEqual(Ratio(number, 97).power(number), 1)
+                self.assertEqual(Ratio(97, number ** 2).power(number), -2)
+            else:
+                self.fails(InvalidNumber, (number,), Ratio(97).power, number)
+
     def test_wrong_primes(self):
         for wrong in (-2, 0, 1, 4, 9, 57, 60, 62, 67, True, False, None, "2", (2,), [2]):
             self.fails(InvalidNumber, (wrong,), Ratio(2).power, wrong)

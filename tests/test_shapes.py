@@ -69,6 +69,7 @@ class Renamed(Case):
             self.fails(InvalidTable, (-1,), renamed, rule, wrong)
         for wrong in (4, -1) + ANYTHING:
             self.fails(InvalidTable, (2,), renamed, rule, [3, 0, wrong, 0])
+            self.fails(InvalidTable, (0,), renamed, rule, [wrong, 0, 1, 2])
         self.fails(InvalidTable, (2,), renamed, rule, (3, 0, 3, True))
         self.fails(InvalidTable, (3,), renamed, rule, (3, 0, 2, 2))
         self.assertEqual(renamed(rule, (0, 1, 2, 3)), rule)
