@@ -4,6 +4,9 @@ import inspect
 import itertools
 import unittest
 
+from borderflow.rows import Row
+from borderflow.rules import Rule
+
 FLIP = (0, 0, 1, 0, 1, 1, 0, 1, 0, 0, 0, 0, 1, 1, 1, 1)
 CARRY = (0, 1, 0, 1, 0, 1, 0, 1, 3, 2, 3, 2, 3, 2, 3, 2)
 THIRD = tuple(3 * (here // 3) + right % 3 for here in range(6) for right in range(6))
@@ -11,6 +14,20 @@ THIRD = tuple(3 * (here // 3) + right % 3 for here in range(6) for right in rang
 
 def words(length, signs):
     return list(itertools.product(range(signs), repeat=length))
+
+
+def some_rule(chance, signs=None, widest=3):
+    signs = chance.randint(1, 3) if signs is None else signs
+    low = chance.randint(-3, 2)
+    high = low + chance.randint(0, widest - 1)
+    return Rule(signs, low, high, [chance.randrange(signs) for _ in range(signs ** (high - low + 1))])
+
+
+def some_row(chance, signs):
+    def word(least):
+        return tuple(chance.randrange(signs) for _ in range(chance.randint(least, 4)))
+
+    return Row(word(1), word(0), word(1), start=chance.randint(-9, 9))
 
 
 def plain_ring_step(rule, ring):

@@ -8,7 +8,7 @@ from borderflow.halves import counts, halves, is_halves, left_number, right_numb
 from borderflow.machines import move, same, wall
 from borderflow.ratios import Ratio
 from borderflow.rows import Row
-from tests.cases import Case, words
+from tests.cases import Case, some_row, words
 from tests.known import carry, flip, third
 
 ANYTHING = (None, True, False, 0, "1", (1,), [1], Row((0,)))
@@ -30,13 +30,6 @@ def plain_halves(machine, context, side, reach):
             row = Row((0,), context + word, start=-3 * reach)
             found.add(machine.step(row).word(-2 * reach, 0))
     return sorted(found)
-
-
-def some_row(chance, signs):
-    def word(least):
-        return tuple(chance.randrange(signs) for _ in range(chance.randint(least, 4)))
-
-    return Row(word(1), word(0), word(1), start=chance.randint(-5, 5))
 
 
 class Halves(Case):

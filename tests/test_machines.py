@@ -11,7 +11,7 @@ from borderflow.ratios import Ratio
 from borderflow.rows import Row
 from borderflow.rules import Rule, move_rule, same_rule, sum_rule
 from borderflow.shapes import grouped, mirrored, renamed
-from tests.cases import CARRY, Case
+from tests.cases import CARRY, Case, some_row
 from tests.known import carry, chain, flip, third
 
 ANYTHING = (None, True, False, "1", (1,), [1], Row((0,)))
@@ -21,13 +21,6 @@ def lopsided():
     """A rule of eight signs with the window -1 to 0, whose back looks at -1 to 1."""
     rule = move_rule(2, -1) * same_rule(4) + Rule(8, 0, 0, (1, 6, 5, 0, 3, 2, 7, 4))
     return rule + move_rule(4, 1) * same_rule(2) + Rule(8, 0, 0, (6, 2, 0, 4, 5, 7, 3, 1))
-
-
-def some_row(chance, signs):
-    def word(least):
-        return tuple(chance.randrange(signs) for _ in range(chance.randint(least, 4)))
-
-    return Row(word(1), word(0), word(1), start=chance.randint(-5, 5))
 
 
 class MachineCase(Case):

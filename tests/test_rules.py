@@ -10,23 +10,9 @@ from borderflow.errors import (
 from borderflow.rows import Row
 from borderflow.rules import Rule, move_rule, same_rule, sum_rule
 from borderflow.words import word_index
-from tests.cases import CARRY, FLIP, Case, plain_ring_step, words
+from tests.cases import CARRY, FLIP, Case, plain_ring_step, some_row, some_rule, words
 
 ANYTHING = (None, True, False, "1", (1,), [1], Row((0,)))
-
-
-def some_rule(chance, signs=None, widest=3):
-    signs = chance.randint(1, 3) if signs is None else signs
-    low = chance.randint(-3, 2)
-    high = low + chance.randint(0, widest - 1)
-    return Rule(signs, low, high, [chance.randrange(signs) for _ in range(signs ** (high - low + 1))])
-
-
-def some_row(chance, signs):
-    def word(least):
-        return tuple(chance.randrange(signs) for _ in range(chance.randint(least, 4)))
-
-    return Row(word(1), word(0), word(1), start=chance.randint(-5, 5))
 
 
 class Rules(Case):

@@ -8,23 +8,9 @@ from borderflow.rows import Row
 from borderflow.rules import Rule, move_rule, same_rule, sum_rule
 from borderflow.shapes import first_unlike, grouped, mirrored, renamed, row_grouped, row_split
 from borderflow.words import word_index
-from tests.cases import CARRY, FLIP, Case, words
+from tests.cases import CARRY, FLIP, Case, some_row, some_rule, words
 
 ANYTHING = (None, True, False, "1", (1,), [1], Row((0,)))
-
-
-def some_rule(chance, signs=None, widest=3):
-    signs = chance.randint(1, 3) if signs is None else signs
-    low = chance.randint(-3, 2)
-    high = low + chance.randint(0, widest - 1)
-    return Rule(signs, low, high, [chance.randrange(signs) for _ in range(signs ** (high - low + 1))])
-
-
-def some_row(chance, signs):
-    def word(least):
-        return tuple(chance.randrange(signs) for _ in range(chance.randint(least, 4)))
-
-    return Row(word(1), word(0), word(1), start=chance.randint(-9, 9))
 
 
 def mirror(row):
