@@ -9,7 +9,7 @@ def back_rule(rule):
     """The back of a rule that loses nothing; raises TooMany if its window has too many words."""
     low, high = back_window(rule)
     check_limit("table", power_of(rule.signs, high - low + 1))
-    table = [0] * power_of(rule.signs, high - low + 1)
+    table = [0 for _ in range(power_of(rule.signs, high - low + 1))]
     # the old sign of cell 0 is the digit of this place in the word that led to the new one
     place = power_of(rule.signs, high + rule.high)
     for index, new_index in enumerate(new_indexes(rule, high - low + rule.width)):

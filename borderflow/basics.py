@@ -41,7 +41,7 @@ def order_fault(value, length):
     """As table_fault, for a list that should have each number below its length once."""
     if not is_listing(value, length):
         return -1
-    ahead = [False] * length
+    ahead = [False for _ in range(length)]
     for at, item in enumerate(value):
         if not is_whole(item) or item < 0 or item >= length or ahead[item]:
             return at

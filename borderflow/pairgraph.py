@@ -41,7 +41,7 @@ def turned(steps):
 
 def longest_walks(steps):
     """For each point the number of steps of the longest walk from it, None if walks from it don't end."""
-    longest = [None] * len(steps)
+    longest = [None for _ in steps]
     befores = turned(steps)
     left = [len(afters) for afters in steps]
     points = [point for point, count in enumerate(left) if count == 0]

@@ -20,7 +20,7 @@ def renamed(rule, names):
     fault = order_fault(names, rule.signs)
     if fault is not None:
         raise InvalidTable(fault)
-    table = [0] * len(rule.table)
+    table = [0 for _ in rule.table]
     for at, word in enumerate(word_list(rule.width, rule.signs)):
         table[word_index([names[sign] for sign in word], rule.signs)] = names[rule.table[at]]
     return made_rule(rule.signs, rule.low, rule.high, tuple(table))

@@ -29,6 +29,7 @@ STATEMENTS = (
     ast.Assign, ast.AugAssign, ast.If, ast.While, ast.For, ast.Return, ast.Break, ast.Continue, ast.Pass, ast.Raise,
     ast.Assert, ast.Delete, ast.Try, ast.Expr, ast.FunctionDef,
 )
+CHANGERS = """append clear extend insert pop remove reverse setdefault update add discard""".split()
 AT_ONCE = ("range", "zip", "enumerate", "reversed")
 TAKERS = ("list", "tuple", "dict", "sorted", "sum", "any", "all", "enumerate", "zip", "min", "max", "set")
 
@@ -67,6 +68,21 @@ def names_bound(function):
         if isinstance(node, ast.Lambda):
             found += [each.arg for each in node.args.args]
     return found
+
+
+def base_of(node):
+    """The name that stands at the left end of items and attributes; what they are of, if it is no name."""
+    while isinstance(node, (ast.Subscript, ast.Attribute)):
+        node = node.value
+    return getattr(node, "id", node)
+
+
+def is_plainly_new(node):
+    if isinstance(node, ast.Call):
+        return isinstance(node.func, ast.Name) and node.func.id in ("list", "dict", "sorted", "set")
+    if isinstance(node, ast.Subscript):
+        return isinstance(node.slice, ast.Slice)
+    return isinstance(node, (ast.List, ast.Dict, ast.ListComp, ast.DictComp))
 
 
 class Language(unittest.TestCase):
@@ -253,6 +269,22 @@ class Language(unittest.TestCase):
             self.fail(f"{where} is no plain assignment")
         for where, node in self.nodes(ast.SetComp):
             self.assertIn(node.above.func.id, ("sorted", "len"), where)
+
+    def test_changed_lists(self):
+        # what a function changes in place is plainly its own: beside an operator * a product is not
+        for where, node in self.nodes(ast.FunctionDef):
+            changed = set()
+            for each in ast.walk(node):
+                if isinstance(each, ast.Subscript) and isinstance(each.ctx, (ast.Store, ast.Del)):
+                    changed.add(base_of(each))
+                if isinstance(each, ast.Call) and isinstance(each.func, ast.Attribute) and each.func.attr in CHANGERS:
+                    changed.add(base_of(each.func))
+            given = {each.arg for each in ast.walk(node) if isinstance(each, ast.arg)}
+            self.assertEqual(changed & given, set(), where)
+            for each in ast.walk(node):
+                if isinstance(each, ast.Name) and isinstance(each.ctx, ast.Store) and each.id in changed:
+                    self.assertIsInstance(each.above, ast.Assign, f"{where} {each.id}")
+                    self.assertTrue(is_plainly_new(each.above.value), f"{where} {each.id}")
 
     def test_iterated_at_once(self):
         for where, node in self.nodes(ast.Call):
