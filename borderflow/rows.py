@@ -132,6 +132,19 @@ def made_row(left, told, right, start):
     return row
 
 
+def window_word(row, low, high):
+    """The word that tells, through a window, the new told word of a row with a period on either side of it."""
+    end = row.start + len(row.told)
+    return row.word(row.start - high - len(row.left) + low, end - low + len(row.right) + high)
+
+
+def told_row(row, low, high, word):
+    """The row that a window makes from a row, by the new word of its window_word."""
+    before = len(row.left)
+    end = len(word) - len(row.right)
+    return made_row(word[:before], word[before:end], word[end:], row.start - high)
+
+
 def sign_in(form, cell):
     """The sign of a cell of a row that left, told and right words and a start tell."""
     left, told, right, start = form

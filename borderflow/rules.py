@@ -3,7 +3,7 @@
 from borderflow.basics import check_limit, is_whole, power_of, table_fault
 from borderflow.errors import BorderError, InvalidNumber, InvalidTable, InvalidText, InvalidWindow, InvalidWord
 from borderflow.errors import UnlikeSigns
-from borderflow.rows import check_signs, made_row
+from borderflow.rows import check_signs, told_row, window_word
 from borderflow.texts import finished_lines, lines_text, numbers_text, read_head, read_numbers
 from borderflow.words import is_number, is_ring, is_word, word_index, word_list
 
@@ -195,13 +195,8 @@ def new_word(rule, word):
 
 def new_row(rule, row):
     """The next row of a row that is known to have signs of the rule alone."""
-    before = len(row.left)
-    behind = len(row.right)
-    first = row.start - rule.high
-    end = row.start + len(row.told) - rule.low
-    word = new_word(rule, row.word(first - before + rule.low, end + behind + rule.high))
-    told_end = before + end - first
-    return made_row(word[:before], word[before:told_end], word[told_end:], first)
+    word = new_word(rule, window_word(row, rule.low, rule.high))
+    return told_row(row, rule.low, rule.high, word)
 
 
 def new_sign(rule, word, first):

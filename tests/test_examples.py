@@ -2,13 +2,16 @@
 
 import unittest
 
-from borderflow.errors import Loses
+from borderflow.errors import Loses, NoSpeed, UnlikeFlows
 from borderflow.halves import halves
-from borderflow.machines import Machine
+from borderflow.machines import Machine, move
 from borderflow.meeting import meeting_rings
+from borderflow.programs import Program
 from borderflow.ratios import Ratio
 from borderflow.rows import Row
 from borderflow.rules import Rule, sum_rule
+from borderflow.seams import Seam
+from borderflow.speeds import speed
 from tests.cases import CARRY, FLIP, Case
 
 
@@ -41,6 +44,21 @@ class Stage2(Case):
     def test_rings(self):
         flip = Machine(Rule(2, -1, 2, FLIP))
         self.assertEqual(flip.ring_step((0, 0, 1, 0, 1, 1, 0, 0, 1, 0)), (0, 1, 1, 0, 0, 1, 0, 1, 1, 0))
+
+
+class Stage3(Case):
+    def test_programs(self):
+        program = Program((2, 2), ("move", 0, 1), ("add", 1, ((0, 0),), (0, 1)))
+        rule = program.as_rule()
+        self.assertEqual([str(program.flow), rule.low, rule.high, rule.table], ["2", -1, 0, CARRY])
+        self.assertEqual((~program).text(), "program 2 2\nadd 1 0:0 = 0 1\nmove 0 -1\n")
+
+    def test_speeds(self):
+        self.assertEqual(speed(Ratio(2), 8, Ratio(1), 2), (2, 1))
+        self.fails(NoSpeed, (3, 2), speed, Ratio(2), 6, Ratio(1), 2)
+
+    def test_seams(self):
+        self.fails(UnlikeFlows, (Ratio(2), Ratio(1)), Seam, move(2, 1), move(3, 0))
 
 
 if __name__ == "__main__":
