@@ -47,3 +47,27 @@ def order_fault(value, length):
             return at
         ahead[item] = True
     return None
+
+
+def inverse_order(table):
+    """The tuple that leads back from the items of a table, which has each number once, to their indexes."""
+    inverse = [0 for _ in table]
+    for at, item in enumerate(table):
+        inverse[item] = at
+    return tuple(inverse)
+
+
+def cycle_lengths(table):
+    """For each cycle of a table that has each number once, its length."""
+    lengths = []
+    done = [False for _ in table]
+    for start in range(len(table)):
+        length = 0
+        at = start
+        while not done[at]:
+            done[at] = True
+            at = table[at]
+            length = length + 1
+        if length > 0:
+            lengths.append(length)
+    return lengths

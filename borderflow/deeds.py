@@ -1,6 +1,6 @@
 """Deeds of programs: tracks that move, signs that are renamed, and values that are added to a track."""
 
-from borderflow.basics import order_fault, table_fault
+from borderflow.basics import inverse_order, order_fault, table_fault
 from borderflow.texts import numbers_text, read_number, read_numbers
 from borderflow.words import is_number
 
@@ -71,14 +71,6 @@ def inverse_deed(sizes, deed):
         return ("swap", inverse_order(deed[1]))
     size = sizes[deed[1]]
     return ("add", deed[1], deed[2], tuple([-item % size for item in deed[3]]))
-
-
-def inverse_order(table):
-    """The tuple that leads back from the items of a table, which has each number once, to their indexes."""
-    inverse = [0 for _ in table]
-    for at, item in enumerate(table):
-        inverse[item] = at
-    return tuple(inverse)
 
 
 def deed_span(sizes, deed):

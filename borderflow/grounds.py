@@ -1,7 +1,7 @@
 """Grounds: how many signs each cell has."""
 
 from borderflow.basics import power_of
-from borderflow.errors import InvalidNumber, InvalidPart, InvalidWord
+from borderflow.errors import InvalidNumber, InvalidPart, InvalidWord, NotAllowed
 from borderflow.rows import nearest, telling_cells
 from borderflow.words import is_number
 
@@ -117,6 +117,13 @@ def lengths_of(ground, first, end):
 def cell_signs(ground, first, end):
     """The list of the numbers of signs of the cells [first, end)."""
     return [signs for length, signs in lengths_of(ground, first, end) for _ in range(length)]
+
+
+def check_fit(ground, row):
+    """Raises NotAllowed unless a row fits a ground."""
+    cell = ground.strange(row)
+    if cell is not None:
+        raise NotAllowed(row[cell], cell)
 
 
 def is_word_on(ground, at, value):

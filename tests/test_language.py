@@ -77,6 +77,16 @@ def base_of(node):
     return getattr(node, "id", node)
 
 
+def is_init_above(node):
+    """Whether this is super().__init__, called by a statement of an __init__ by itself."""
+    if not isinstance(node, ast.Attribute) or node.attr != "__init__" or not isinstance(node.value, ast.Call):
+        return False
+    if getattr(node.value.func, "id", None) != "super" or node.value.args or node.value.keywords:
+        return False
+    statement = node.above.above
+    return isinstance(statement, ast.Expr) and getattr(statement.above, "name", None) == "__init__"
+
+
 def is_plainly_new(node):
     if isinstance(node, ast.Call):
         return isinstance(node.func, ast.Name) and node.func.id in ("list", "dict", "sorted", "set")
@@ -184,12 +194,14 @@ class Language(unittest.TestCase):
                         self.assertNotIn(each, BARRED_NAMES, (name, node.name))
                         self.assertFalse(hasattr(builtins, each), (name, node.name, each))
                         self.assertRegex(each, r"^(_|_?[a-z][a-z0-9_]*)$", (name, node.name))
-                if isinstance(node, ast.Attribute):
+                if isinstance(node, ast.Attribute) and not is_init_above(node):
                     self.assertFalse(node.attr.startswith("__"), (name, node.attr))
 
     def test_builtins(self):
         for where, node in self.nodes(ast.Name):
-            if hasattr(builtins, node.id) and not isinstance(node.above, ast.FunctionDef):
+            if node.id == "super":
+                self.assertTrue(is_init_above(node.above.above), where)
+            elif hasattr(builtins, node.id) and not isinstance(node.above, ast.FunctionDef):
                 self.assertIn(node.id, BUILTINS, where)
 
     def test_methods_called(self):
