@@ -203,8 +203,9 @@ def borders_of(machines, widths):
 
 def made_floor_ground(machines, widths):
     """The ground with the signs of the machines of all zones."""
+    first = machines[0].signs
     parts = [(border, machine.signs) for border, machine in zip(borders_of(machines, widths), machines[1:])]
-    return Ground(machines[0].signs, *parts)
+    return Ground(first, *parts)
 
 
 def check_edits(ground, edits):

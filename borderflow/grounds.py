@@ -71,8 +71,7 @@ class Ground:
         return self.first == other.first and self._parts == other._parts
 
     def __repr__(self):
-        parts = "".join([f", {part}" for part in self._parts])
-        return f"Ground({self.first}{parts})"
+        return f"Ground({self.first}{parts_text(self._parts)})"
 
     @staticmethod
     def even(signs):
@@ -91,6 +90,11 @@ def least_parts(first, parts):
     """The parts at whose borders the number of signs changes, as a tuple."""
     signs = [first, *[many for _, many in parts]]
     return tuple([part for at, part in enumerate(parts) if part[1] != signs[at]])
+
+
+def parts_text(parts):
+    """The parts as they stand behind the first number of a ground."""
+    return "".join([f", {part}" for part in parts])
 
 
 def made_ground(first, parts):

@@ -185,7 +185,8 @@ class Reaches(Case):
             ([flip(), same(2)], (), 7), ([same(2), flip()], (), 7), ([flip(), flip()], (), 9), ([carry()] * 2, (), 4),
             ([move(2, 4), move(16, 1)], (), 16), ([move(4, 1), move(2, 2), move(4, 1)], [8], 8),
             ([wall(), flip(), wall()], [8], 7), ([same(2), same(3), wall()], [1], 0),
-            ([third(), move(3, -1), move(3, -1), third()], [4, 4], 4),
+            ([third(), move(3, -1), move(3, -1), third()], [4, 4], 4), ([flip(), same(3), flip()], [1], 7),
+            ([same(3), flip(), flip(), same(3)], [8, 8], 9), ([same(3), same(2), flip(), flip()], [1, 8], 9),
         ):
             self.assertEqual(Floor(machines, widths=widths).reach, reach)
 

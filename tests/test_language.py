@@ -77,6 +77,13 @@ def base_of(node):
     return getattr(node, "id", node)
 
 
+def called_name(node):
+    """The name of what is called, None for anything but a call."""
+    if not isinstance(node, ast.Call):
+        return None
+    return node.func.attr if isinstance(node.func, ast.Attribute) else node.func.id
+
+
 def is_init_above(node):
     """Whether this is super().__init__, called by a statement of an __init__ by itself."""
     if not isinstance(node, ast.Attribute) or node.attr != "__init__" or not isinstance(node.value, ast.Call):
@@ -308,6 +315,55 @@ class Language(unittest.TestCase):
             looped = isinstance(above, (ast.For, ast.comprehension)) and above.iter is node
             taken = isinstance(above, ast.Call) and isinstance(above.func, ast.Name) and above.func.id in TAKERS
             self.assertTrue(looped or taken, where)
+
+    def test_operators_and_properties_change_nothing(self):
+        functions = {}
+        classes = {node.name: node for _, node in self.nodes(ast.ClassDef)}
+        for where, node in self.nodes(ast.FunctionDef):
+            functions.setdefault(node.name, []).append((where, node))
+        reached = [name for name in functions if name.startswith("__") and name != "__init__"]
+        for _, node in self.nodes(ast.FunctionDef):
+            if [each for each in node.decorator_list if each.id == "property"]:
+                reached.append(node.name)
+        for name in reached:
+            for where, node in functions[name]:
+                self.changes_nothing(where, node, classes)
+                for each in ast.walk(node):
+                    called = called_name(each)
+                    called = "__init__" if called in classes else called
+                    if called in functions and called not in reached:
+                        reached.append(called)
+        self.assertIn("least_exchange", reached)
+        self.assertNotIn("tick", reached)
+
+    def changes_nothing(self, where, node, classes):
+        """Checks that a function assigns attributes of what it created alone, or of its own object in an __init__."""
+        created = [node.args.args[0].arg] if node.name == "__init__" else []
+        for each in ast.walk(node):
+            if isinstance(each, ast.Assign) and called_name(each.value) in classes:
+                created += [target.id for target in each.targets if isinstance(target, ast.Name)]
+        given = {each.arg for each in ast.walk(node) if isinstance(each, ast.arg)}
+        for each in ast.walk(node):
+            if isinstance(each, ast.Attribute) and isinstance(each.ctx, (ast.Store, ast.Del)):
+                self.assertIn(base_of(each), created, f"{where} {node.name}")
+            if isinstance(each, ast.Call) and isinstance(each.func, ast.Name):
+                self.assertNotIn(each.func.id, given, f"{where} {node.name}")
+
+    def test_stars_in_calls(self):
+        for where, node in self.nodes(ast.Call):
+            for each in node.args:
+                if isinstance(each, ast.Starred):
+                    for arg in node.args:
+                        arg = arg.value if isinstance(arg, (ast.Starred, ast.Attribute)) else arg
+                        self.assertIsInstance(arg, (ast.Name, ast.Constant), where)
+            self.assertEqual([each for each in node.keywords if each.arg is None], [], where)
+
+    def test_methods_that_only_tell(self):
+        for where, node in self.nodes(ast.FunctionDef):
+            if node.name in ("__eq__", "__repr__", "__str__", "__len__", "__bool__"):
+                for each in ast.walk(node):
+                    stores = isinstance(getattr(each, "ctx", None), (ast.Store, ast.Del))
+                    self.assertFalse(stores and not isinstance(each.above, ast.comprehension), where)
 
     def test_raises(self):
         for where, node in self.nodes(ast.Raise):

@@ -83,6 +83,9 @@ class Making(Case):
             self.assertFalse(mixed() == other)
             self.assertTrue(mixed() != other)
         self.assertFalse(Seam(flip(), same(2)) == Seam(same(2), flip()))
+        # one matching, and one machine that is the same
+        self.assertFalse(Seam(flip(), same(2)) == Seam(flip(), same(3)))
+        self.assertFalse(Seam(same(2), flip()) == Seam(same(3), flip()))
         for value in (None, 8, tuple(range(8)), "Seam(8 words, flow 2)", carry(), Ratio(2)):
             self.assertFalse(mixed() == value)
 
