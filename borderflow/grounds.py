@@ -2,7 +2,8 @@
 
 from borderflow.basics import power_of
 from borderflow.errors import InvalidNumber, InvalidPart, InvalidWord, NotAllowed
-from borderflow.rows import nearest, telling_cells
+from borderflow.rows import nearest, pieces_of, telling_cells
+from borderflow.texts import number_text
 from borderflow.words import is_number
 
 MOST_SIGNS = 16
@@ -56,10 +57,7 @@ class Ground:
 
     def strange(self, row):
         """The cell nearest to 0 with a sign that does not fit, None if the row fits."""
-        borders = [border for border, _ in self._parts]
-        first = min([row.start, *borders])
-        end = max([row.start + len(row.told), *borders])
-        cells = telling_cells(first, end, len(row.left), len(row.right))
+        cells = telling_cells(cut_pieces(pieces_of(row), [border for border, _ in self._parts]))
         return nearest([cell for cell in cells if row[cell] >= self[cell]])
 
     def __rshift__(self, other):
@@ -94,7 +92,7 @@ def least_parts(first, parts):
 
 def parts_text(parts):
     """The parts as they stand behind the first number of a ground."""
-    return "".join([f", {part}" for part in parts])
+    return "".join([f", ({number_text(border)}, {signs})" for border, signs in parts])
 
 
 def made_ground(first, parts):
@@ -102,6 +100,19 @@ def made_ground(first, parts):
     ground = Ground(first)
     ground._parts = least_parts(first, parts)
     return ground
+
+
+def cut_pieces(pieces, borders):
+    """The pieces (first, end, period) of a row, cut at some ascending borders."""
+    cut = []
+    for first, end, period in pieces:
+        inside = [
+            border for border in borders
+            if (first is None or first < border) and (end is None or border < end)
+        ]
+        for low, high in zip([first, *inside], [*inside, end]):
+            cut.append((low, high, period))
+    return cut
 
 
 def lengths_of(ground, first, end):

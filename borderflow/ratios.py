@@ -4,6 +4,7 @@ from math import gcd
 
 from borderflow.basics import is_whole, power_of
 from borderflow.errors import InvalidNumber
+from borderflow.texts import number_text
 
 PRIMES = (2, 3, 5, 7, 11, 13, 17, 19, 23, 29, 31, 37, 41, 43, 47, 53, 59, 61)
 
@@ -56,11 +57,11 @@ class Ratio:
 
     def __str__(self):
         if self.bottom == 1:
-            return f"{self.top}"
-        return f"{self.top}/{self.bottom}"
+            return f"{number_text(self.top)}"
+        return f"{number_text(self.top)}/{number_text(self.bottom)}"
 
     def __repr__(self):
-        return f"Ratio({self.top}, {self.bottom})"
+        return f"Ratio({number_text(self.top)}, {number_text(self.bottom)})"
 
 
 def times_divided(number, prime):

@@ -55,15 +55,16 @@ class Row:
 
     def strange(self, signs):
         """The cell nearest to 0 with a sign that is not below signs, None if there is none."""
-        cells = telling_cells(self.start, self.start + len(self.told), len(self.left), len(self.right))
-        return nearest([cell for cell in cells if self[cell] >= signs])
+        return nearest([cell for cell in telling_cells(pieces_of(self)) if self[cell] >= signs])
 
     def apart(self, other):
         """The cell nearest to 0 in which two rows differ, None if they are equal."""
         first = min(self.start, other.start)
         end = max(self.start + len(self.told), other.start + len(other.told))
         # two periods that agree in so many cells as both have together agree everywhere
-        cells = telling_cells(first, end, len(self.left) + len(other.left), len(self.right) + len(other.right))
+        below = (None, first, len(self.left) + len(other.left))
+        above = (end, None, len(self.right) + len(other.right))
+        cells = telling_cells([below, (first, end, end - first), above])
         return nearest([cell for cell in cells if self[cell] != other[cell]])
 
     def __eq__(self, other):
@@ -207,11 +208,23 @@ def repeats_below(form):
     return cell
 
 
-def telling_cells(first, end, before, behind):
-    """Cells among which is the nearest one of a kind, if kinds repeat below first and from end on."""
-    below = list(range(min(first, 0) - before, min(first, before)))
-    above = list(range(max(end, -behind), max(end, 0) + behind))
-    return [*below, *list(range(first, end)), *above]
+def pieces_of(row):
+    """The pieces (first, end, period) of a row within which it repeats, with None for an end that is endless."""
+    end = row.start + len(row.told)
+    return [(None, row.start, len(row.left)), (row.start, end, end - row.start), (end, None, len(row.right))]
+
+
+def telling_cells(pieces):
+    """Cells among which is the nearest one of a kind, if the kind repeats within each of some pieces."""
+    return [cell for first, end, period in pieces for cell in near_cells(first, end, period)]
+
+
+def near_cells(first, end, period):
+    """The cells of [first, end), where None is endless, at most a period away from the cell that is nearest to 0."""
+    low = min(0, end) - period if first is None else first
+    high = max(0, low) + period if end is None else end
+    near = min(max(0, low), high)
+    return list(range(max(low, near - period), min(high, near + period)))
 
 
 def nearest(cells):

@@ -157,11 +157,19 @@ class Fitting(Case):
         self.assertEqual(Ground(16, (-1, 2), (0, 3)).strange(Row((0,), (2, 2, 2), (2,), start=-1)), -1)
         self.assertEqual(Ground(16, (1, 2)).strange(Row((15,), (), (15,), start=-1)), 1)
 
+    def test_borders_far_away(self):
+        far = Ground(2, (0, 1)) >> 999999999
+        self.assertEqual(far.strange(Row((1,))), 999999999)
+        self.assertEqual((far >> -1999999998).strange(Row((2,), (), (1, 0), start=-5)), -1)
+        self.assertEqual(Ground(1, (7, 2)).strange(Row((0,), (), (1,), start=9) >> 5), None)
+        self.assertEqual(repr(Ground(1, (7, 2)) >> 10 ** 5000), "Ground(1, (1" + "0" * 4999 + "7, 2))")
+        self.assertEqual(repr(Ground(1, (7, 2)) >> -7 - 10 ** 5000), "Ground(1, (-1" + "0" * 5000 + ", 2))")
+
     def test_as_a_plain_search_says(self):
         chance = random.Random(2)
-        for _ in range(300):
+        for _ in range(1000):
             ground = some_ground(chance)
-            row = some_row(chance, chance.randint(1, 4))
+            row = some_row(chance, chance.randint(1, 4)) >> chance.randint(-30, 30)
             strange = [cell for cell in range(-60, 60) if row[cell] >= ground[cell]]
             told = min(strange, key=lambda cell: (abs(cell), cell), default=None)
             self.assertEqual(ground.strange(row), told, (ground, row))

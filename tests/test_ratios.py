@@ -92,6 +92,21 @@ class Ratios(Case):
         self.assertEqual(repr(Ratio(6, 2)), "Ratio(3, 1)")
         self.assertEqual(repr(Ratio(2, 6)), "Ratio(1, 3)")
 
+    def test_long_texts(self):
+        long = Ratio(10).raised(99).raised(50)
+        self.assertEqual(str(long), "1" + "0" * 4950)
+        self.assertEqual(repr(long), "Ratio(1" + "0" * 4950 + ", 1)")
+        self.assertEqual(str(~long), "1/1" + "0" * 4950)
+        self.assertEqual(repr(~long), "Ratio(1, 1" + "0" * 4950 + ")")
+        many = long.top * 10 ** 60
+        self.assertEqual(str(count_ratio(many - 1, many)), "9" * 5010 + "/1" + "0" * 5010)
+        self.assertEqual(str(Ratio(7 * many + 30)), "7" + "0" * 5008 + "30")
+
+    def test_texts_of_each_length(self):
+        for digits in range(1, 300):
+            for number in (10 ** digits - 1, 10 ** digits, 10 ** digits + 1, int("123456789" * digits)):
+                self.assertEqual(str(Ratio(number)), str(number))
+
     def test_always_true(self):
         self.assertTrue(bool(Ratio(0)))
 
