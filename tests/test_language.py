@@ -356,7 +356,10 @@ class Language(unittest.TestCase):
                     for arg in node.args:
                         arg = arg.value if isinstance(arg, (ast.Starred, ast.Attribute)) else arg
                         self.assertIsInstance(arg, (ast.Name, ast.Constant), where)
-            self.assertEqual([each for each in node.keywords if each.arg is None], [], where)
+            for each in node.keywords:
+                if each.arg is None:
+                    self.assertIsInstance(each.value, ast.Name, where)
+                    self.assertEqual(len(node.keywords), 1, where)
 
     def test_methods_that_only_tell(self):
         for where, node in self.nodes(ast.FunctionDef):
@@ -371,8 +374,13 @@ class Language(unittest.TestCase):
             self.assertIsInstance(node.exc.func, ast.Name, where)
             self.assertEqual(node.exc.keywords, [], where)
         for where, node in self.nodes(ast.ExceptHandler):
-            self.assertIn(node.type.id, ("BorderError", "Missing", "TooMany"), where)
-            self.assertIsNone(node.name, where)
+            caught = node.type.elts if isinstance(node.type, ast.Tuple) else [node.type]
+            for each in caught:
+                self.assertIn(each.id, ("BorderError", "Missing"), where)
+            for each in ast.walk(node):
+                if isinstance(each, ast.Name) and each.id == node.name:
+                    self.assertIsInstance(each.above, ast.Raise, where)
+                    self.assertIs(each.above.cause, each, where)
 
 
 if __name__ == "__main__":
