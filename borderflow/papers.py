@@ -14,7 +14,7 @@ from borderflow.rules import Rule, new_sign
 from borderflow.seams import Seam
 from borderflow.seen import Seen
 from borderflow.shapes import first_unlike
-from borderflow.words import is_number, is_word_of
+from borderflow.words import is_word_of
 
 
 def is_right(value):
