@@ -8,13 +8,13 @@ PART_DIGITS = 64
 def number_text(number):
     """The text of a number of any size: Python's own text is for numbers of not too many digits alone."""
     if number < 0:
-        return "-" + number_text(-number)
+        return f"-{number_text(-number)}"
     pieces = []
     rest = number
     while rest >= 10 ** 64:
         rest, piece = divmod(rest, 10 ** 64)
         pieces.append(str(piece).zfill(PART_DIGITS))
-    return str(rest) + "".join(pieces[::-1])
+    return "".join([str(rest), *pieces[::-1]])
 
 
 def numbers_text(numbers):
