@@ -112,7 +112,7 @@ class Lots(Case):
         self.assertEqual(lots(seen, 1), [[()], [(0,), (1,), (2,), (3,)], []])
         seen = Seen(carry())
         seen.say("b", 1, 1, 3)
-        self.assertEqual(lots(seen), [[()], [(0,), (1,), (2,), (3,)], [(0,), (1,), (2,), (3,)]])
+        self.assertEqual(lots(seen), [[()], [(0,), (1,), (2,), (3,)], [(0,), (2,)]])
 
     def test_long_stretches(self):
         seen = Seen(flip())
