@@ -3,9 +3,11 @@
 import unittest
 
 from borderflow.errors import Loses, NoSpeed, UnlikeFlows
+from borderflow.fringes import fringes, past_count
 from borderflow.halves import halves
 from borderflow.machines import Machine, move
 from borderflow.meeting import meeting_rings
+from borderflow.movers import movers
 from borderflow.programs import Program
 from borderflow.ratios import Ratio
 from borderflow.rows import Row
@@ -59,6 +61,18 @@ class Stage3(Case):
 
     def test_seams(self):
         self.fails(UnlikeFlows, (Ratio(2), Ratio(1)), Seam, move(2, 1), move(3, 0))
+
+
+class Stage5(Case):
+    def test_movers(self):
+        self.assertEqual(movers(Machine(Rule(4, -1, 0, CARRY))), (1, 2))
+
+
+class Stage6(Case):
+    def test_fringes(self):
+        carry = Machine(Rule(4, -1, 0, CARRY))
+        left, right = fringes(carry, (0, 1, 2, 3))
+        self.assertEqual([past_count(carry, (0, 1, 2, 3)), len(left), len(right)], [16, 2, 8])
 
 
 if __name__ == "__main__":
