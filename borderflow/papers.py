@@ -2,14 +2,14 @@
 
 from borderflow.basics import power_of
 from borderflow.carrying import carry
-from borderflow.errors import LIMITS, BorderError
+from borderflow.errors import BorderError
 from borderflow.exchanges import Exchange
 from borderflow.halves import halves
 from borderflow.lots import are_closed, lots
 from borderflow.machines import leads_back, machine_of
 from borderflow.meeting import meeting_rings, rings_meet
 from borderflow.names import LETTERS
-from borderflow.ratios import Ratio, count_ratio
+from borderflow.ratios import count_ratio
 from borderflow.rules import Rule, new_sign
 from borderflow.seams import Seam
 from borderflow.seen import Seen
@@ -19,7 +19,7 @@ from borderflow.words import is_word_of
 
 def is_right(value):
     """Whether any value is a right paper."""
-    if not isinstance(value, tuple) or len(value) == 0 or not isinstance(value[0], str):
+    if not isinstance(value, tuple) or len(value) == 0:
         return False
     items = value[1:]
     try:
@@ -54,7 +54,7 @@ def are_rules(values):
 
 def shows_flow(machine, context, told, flow):
     """Whether these are a context, the tuple of all right halves for it, and the flow that their number tells."""
-    if not isinstance(told, tuple) or not isinstance(flow, Ratio):
+    if not isinstance(told, tuple):
         return False
     if not all([is_word_of(word, machine.signs, 2 * machine.reach) for word in told]):
         return False
@@ -67,7 +67,11 @@ def shows_seam(items):
     """Whether these are two rules, each with its back behind it, and a matching for the seam of their machines."""
     one = machine_of(items[0], items[1])
     other = machine_of(items[2], items[3])
-    return isinstance(items[4], tuple) and len(Seam(one, other, matching=items[4])) > 0
+    if not isinstance(items[4], tuple):
+        return False
+    # raises an error if the flows differ, or if this is no matching
+    Seam(one, other, matching=items[4])
+    return True
 
 
 def shows_unlike(rule, other, word):
@@ -88,11 +92,12 @@ def shows_carried(machine, exchange, carried):
 
 def shows_lots(machine, sayings, tick, told):
     """Whether these are sayings, a tick and closed lots for them of which the last one is empty."""
-    if not isinstance(sayings, tuple) or len(sayings) > LIMITS["sayings"] or not isinstance(told, tuple):
+    if not isinstance(sayings, tuple) or not all([is_told_saying(saying) for saying in sayings]):
         return False
-    if not all([is_told_saying(saying) for saying in sayings]) or not all([isinstance(lot, tuple) for lot in told]):
+    if not isinstance(told, tuple) or not all([isinstance(lot, tuple) for lot in told]):
         return False
     seen = Seen(machine)
+    # more sayings than letters raise an error long before the letters are used up
     for name, (cell, saying_tick, signs) in zip(LETTERS, sayings):
         seen.say(name, cell, saying_tick, *signs)
         if seen.sayings()[-1][3] != signs:

@@ -15,6 +15,8 @@ from tests.cases import Case
 from tests.known import carry, flip
 
 RIGHT = move(2, 1)
+LEFT = move(2, -1)
+TURN = Machine(Rule(2, -1, -1, (1, 0)))
 PLAIN = Floor([RIGHT])
 TWO = Ground(2)
 SEAM = Floor([RIGHT, RIGHT], matchings=[(1, 0, 3, 2)])
@@ -62,6 +64,13 @@ def some_pairs():
             pairs.append((plain, Floor(machines, widths=widths, matchings=matchings)))
             edits = some_edits(chance, plain.ground, chance.randint(1, 2))
             pairs.append((Floor(machines, widths=widths, edits=edits), plain))
+    for machine in (LEFT, TURN, ~TURN):
+        one = Floor([machine, machine, machine], widths=[4], matchings=[drawn(chance, 4), drawn(chance, 4)])
+        other = Floor([machine, machine], matchings=[drawn(chance, 4)])
+        pairs += [(one, other), (other, one), (one, Floor([machine])), (Floor([machine]), one), (Floor([machine]), other)]
+    near = [flip(), same(2), flip()]
+    pairs.append((Floor(near, widths=[1]), Floor(near, widths=[1], matchings=[None, drawn(chance, 4)])))
+    pairs.append((Floor(near, widths=[1]), Floor(near, widths=[1], matchings=[drawn(chance, 4), None])))
     for _ in range(6):
         one = Floor([RIGHT, RIGHT, RIGHT], widths=[4], matchings=[drawn(chance, 4), drawn(chance, 4)])
         other = Floor([RIGHT, RIGHT], matchings=[drawn(chance, 4)])

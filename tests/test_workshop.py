@@ -588,6 +588,16 @@ class Answers(Case):
             workshop.difference_of("one", "edited")
             self.assertEqual(workshop.worked, 4)
 
+    def test_things_with_the_names_of_questions(self):
+        workshop = Workshop(share=some_seen(), seen=some_seen(), one=Floor([flip()]))
+        workshop.share_of("seen")
+        workshop.run(("put", "share", some_seen()))
+        self.assertEqual((workshop.share_of("seen"), workshop.worked), (some_seen().share, 1))
+        workshop.share_of("share")
+        workshop.run(("unsay", "share", "first"))
+        workshop.share_of("share")
+        self.assertEqual(workshop.worked, 3)
+
     def test_deeds_that_change_nothing(self):
         workshop = self.shop()
         workshop.share_of("seen")
