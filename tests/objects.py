@@ -1,6 +1,5 @@
-"""An object of each class of the package, and calls of each of its functions and methods."""
+"""An object of each class of the package."""
 
-from borderflow import basics  # noqa: F401 (the package can be imported as a whole)
 from borderflow.between import SeenBetween
 from borderflow.crossings import Crossing
 from borderflow.exchanges import Exchange, swap_signs

@@ -156,6 +156,7 @@ class Sayings(Case):
         seen = SeenBetween(Closed([same(2), same(3)], [2, 1]))
         for wrong in (*NO_NUMBERS, -1, 3, 9999):
             self.fails(InvalidSaying, (), seen.say, "a", wrong, 0, 1)
+            self.fails(InvalidSaying, (), seen.say, "a", wrong, 0, 0)
         for wrong in (*NO_NUMBERS, 5, -5):
             self.fails(InvalidSaying, (), seen.say, "a", 0, wrong, 1)
         for wrong in (*NO_NUMBERS, -1, 2, 3):
@@ -183,8 +184,15 @@ class Sayings(Case):
         self.fails(InvalidSaying, (), seen.say_crossing, "a", 0, 0)
         self.assertEqual(seen.sayings(), [])
         seen.say_crossing("a", 0, 3, (0, 3))
-        seen.say_crossing(LETTERS[1], 1, -4, (3, 0))
+        seen.say_crossing(LETTERS[1], 1, -4, (3, 0), (0, 0), (2, 0), (1, 0), (0, 0))
+        self.assertEqual(seen.sayings()[1][4], ((0, 0), (1, 0), (2, 0), (3, 0)))
         self.assertEqual(len(seen), 2)
+
+    def test_signs_in_any_order(self):
+        seen = SeenBetween(Closed([same(16)], [2]))
+        seen.say("a", 0, 0, 8, 1, 15, 9, 8)
+        self.assertEqual(seen.sayings(), [("a", "cell", 0, 0, (1, 8, 9, 15))])
+        self.assertEqual((seen.possible(0), seen.share), ([1, 8, 9, 15], Ratio(1, 4)))
 
 
 class Counting(Case):

@@ -196,6 +196,7 @@ class Rows(Case):
         self.assertTrue(row == Row((0, 0), (0, 1, 0), (0,)))
         self.assertFalse(row != Row((0, 0), (0, 1, 0), (0,)))
         for other in (Row((0,), (1,)), Row((0,)), Row((0,), (1,), (1,), start=1), Row((2,), (1,), (0,), start=1),
+                      Row((0,), (1,), (2,), start=1), Row((0,), (1,), (0, 2), start=1), Row((0,), (3,), (0,), start=1),
                       None, 0, (0,), str(row), [row]):
             self.assertFalse(row == other)
             self.assertTrue(row != other)

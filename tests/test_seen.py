@@ -133,6 +133,12 @@ class Sayings(Case):
         self.fails(InvalidSaying, (), seen.say, "a", 0, 0)
         self.assertEqual(seen.sayings(), [])
 
+    def test_signs_in_any_order(self):
+        seen = Seen(same(16))
+        seen.say("a", 0, 0, 8, 1, 15, 9, 8)
+        self.assertEqual(seen.sayings(), [("a", 0, 0, (1, 8, 9, 15))])
+        self.assertEqual((seen.possible(0), seen.share), ([1, 8, 9, 15], Ratio(1, 4)))
+
     def test_twelve_sayings(self):
         seen = some_seen(random.Random(2), same(3), 12, 20, 4)
         self.assertEqual((len(seen), repr(seen)), (12, "Seen(12 sayings)"))

@@ -416,6 +416,9 @@ class Undoing(Case):
                 self.fails(Refused, (at,), workshop.batch, right[:at] + [deed] + right[at:])
                 self.assertEqual(state(workshop), before)
             self.fails(Refused, (0,), workshop.batch, [deed, deed])
+        with self.assertRaises(Refused) as caught:
+            workshop.batch(right + [("tick", "wide", "flip", 1)])
+        self.shows(NotAllowed, (3, -1), caught.exception.__cause__)
         # a deed is tried behind the deeds ahead of it
         self.fails(Refused, (2,), workshop.batch, [("drop", "row"), ("drop", "wide"), ("tick", "row", "flip", 1)])
         self.assertEqual(state(workshop), before)
