@@ -85,9 +85,7 @@ def shows_unlike(rule, other, word):
 
 def shows_carried(machine, exchange, carried):
     """Whether these are two exchanges, and the second one is the first one carried over a tick."""
-    if not isinstance(exchange, Exchange) or not isinstance(carried, Exchange):
-        return False
-    return carry(exchange, machine) == carried
+    return isinstance(exchange, Exchange) and carry(exchange, machine) == carried
 
 
 def shows_lots(machine, sayings, tick, told):

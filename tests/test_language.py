@@ -305,6 +305,22 @@ class Language(unittest.TestCase):
                     self.assertIsInstance(each.above, ast.Assign, f"{where} {each.id}")
                     self.assertTrue(is_plainly_new(each.above.value), f"{where} {each.id}")
 
+    def test_dicts_of_modules_are_only_read(self):
+        dicts = {
+            node.targets[0].id for tree in self.trees.values() for node in tree.body
+            if isinstance(node, ast.Assign) and isinstance(node.value, (ast.Dict, ast.List))
+        }
+        self.assertIn("LIMITS", dicts)
+        for where, node in self.nodes(ast.Name):
+            if node.id not in dicts or node.above in self.trees[where.split(":")[0]].body:
+                continue
+            above = node.above
+            read = isinstance(above, ast.Subscript) and above.value is node and isinstance(above.ctx, ast.Load)
+            read = read or isinstance(above, ast.Compare) and isinstance(above.ops[-1], (ast.In, ast.NotIn))
+            read = read or isinstance(above, ast.Attribute) and above.attr == "get"
+            read = read or isinstance(above, (ast.For, ast.comprehension)) and above.iter is node
+            self.assertTrue(read, where)
+
     def test_iterated_at_once(self):
         for where, node in self.nodes(ast.Call):
             lazy = isinstance(node.func, ast.Name) and node.func.id in AT_ONCE
